@@ -1,0 +1,1 @@
+"""Osier: shapes of cells, found through a program's rows."""
