@@ -128,6 +128,25 @@ def renumbered(item, numbers):
     return (word, tuple([numbers[target] for target in targets]))
 
 
+def pruned_web(name_pairs, item_pairs):
+    """The web of these names, and of those of the points alone that are come to from them."""
+    order = met_points(name_pairs, item_pairs)
+    numbers = new_numbers(order)
+    names = [(name, numbers[target]) for name, target in name_pairs]
+    return Web(names, [renumbered(item_pairs[point - 1], numbers) for point in order])
+
+
+def unmet(webs, met):
+    """Those of the webs whose texts were not met yet, each once; they are met from now on."""
+    found = []
+    for web in webs:
+        text = repr(web)
+        if text not in met:
+            met[text] = True
+            found.append(web)
+    return found
+
+
 def shown_words(name_pairs, item_pairs):
     """The words of a web's text."""
     words = [f"{name}={shown_target(target)}" for name, target in name_pairs]

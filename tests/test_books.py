@@ -5,21 +5,7 @@ import unittest
 from osier.books import Book, need_items
 from osier.errors import BadItem, NoShape
 from osier.webs import Web
-
-LIST = ("list", 1, [("-", "-", ()), ("-", "p", (("list", ("p",)),))])
-TREE = ("tree", 1, [
-    ("-", "-", ()),
-    ("p", "-", (("tree", ("p",)),)),
-    ("-", "p", (("tree", ("p",)),)),
-    ("p", "q", (("tree", ("p",)), ("tree", ("q",)))),
-])
-PART = ("part", 2, [("-", "b", ()), ("-", "p", (("part", ("p", "b")),))])
-# A list with ways back: the left field leads to the cell ahead, which is the second point.
-BACK = ("back", 2, [("b", "-", ()), ("b", "p", (("back", ("p", "a")),))])
-# A stretch of such a list: a is its first cell, b the cell ahead, c what comes behind.
-WAY = ("way", 3, [("b", "c", ()), ("b", "p", (("way", ("p", "a", "c")),))])
-RING = ("ring", 1, [("-", "a", ()), ("-", "p", (("part", ("p", "a")),))])
-SHAPES = [LIST, TREE, PART, BACK, WAY, RING]
+from samples import LIST, PART, RING, SHAPES, TREE
 
 
 class Told(unittest.TestCase):

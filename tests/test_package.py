@@ -10,6 +10,10 @@ import warnings
 
 import osier.books
 import osier.errors
+import osier.folding
+import osier.growing
+import osier.programs
+import osier.tables
 import osier.webs
 
 PACKAGE = pathlib.Path(osier.webs.__file__).parent
@@ -44,10 +48,30 @@ METHODS = {
         "__len__": "(self)",
         "__repr__": "(self)",
     },
+    osier.programs.Program: {
+        "__init__": "(self, rows, *, lossy=False)",
+        "row_rows": "(self)",
+        "names": "(self)",
+        "__eq__": "(self, other)",
+        "__len__": "(self)",
+    },
 }
 FUNCTIONS = {
     (osier.webs, "read_web"): "(text)",
     (osier.books, "need_items"): "(book, web)",
+    (osier.growing, "openings"): "(book, web, point)",
+    (osier.growing, "grown"): "(book, web, choices=())",
+    (osier.growing, "heaps_of"): "(book, web, *, cells)",
+    (osier.growing, "holds"): "(book, web, heap)",
+    (osier.folding, "folds"): "(book, web)",
+    (osier.folding, "folded"): "(book, web)",
+    (osier.folding, "forms"): "(book, web)",
+    (osier.folding, "comes_to"): "(book, web, others)",
+    (osier.programs, "ready"): "(program, web)",
+    (osier.programs, "touched"): "(program, number, web)",
+    (osier.programs, "done"): "(program, number, web)",
+    (osier.tables, "found_table"): "(book, program, starts, *, wishes=None)",
+    (osier.tables, "closed"): "(book, program, starts, table, *, wishes=None)",
 }
 
 
@@ -65,6 +89,7 @@ class Interface(unittest.TestCase):
             self.assertEqual(str(inspect.signature(made)), told)
         self.assertEqual(osier.webs.Web.__module__, "osier.webs")
         self.assertEqual(osier.books.Book.__module__, "osier.books")
+        self.assertEqual(osier.programs.Program.__module__, "osier.programs")
 
 
 class Language(unittest.TestCase):
@@ -85,8 +110,9 @@ class Language(unittest.TestCase):
             self.assertLessEqual(len(lines), 399, path)
             self.assertLessEqual(max(len(line) for line in lines), 120, path)
             self.assertTrue(all(sign == "\n" or " " <= sign <= "~" for sign in text), path)
-            self.assertNotIn(chr(37), text, path)
             for node in ast.walk(tree):
+                if isinstance(node, ast.Constant) and isinstance(node.value, str):
+                    self.assertNotIn(chr(37), node.value, path)
                 if isinstance(node, ast.FunctionDef):
                     self.assertLessEqual(node.end_lineno - node.lineno + 1, 40, (path, node.name))
 
@@ -112,6 +138,41 @@ class Language(unittest.TestCase):
                             defined.add(row.targets[0].id)
                     for alias in node.names:
                         self.assertIn(alias.name, defined, path)
+
+    def test_no_two_files_import_from_each_other(self):
+        imports = {}
+        for path, _, tree in self.trees():
+            rows = [node for node in tree.body if isinstance(node, ast.ImportFrom)]
+            imports[f"osier.{path.stem}"] = [node.module for node in rows]
+        for first in imports:
+            met, waiting = set(), list(imports[first])
+            while waiting:
+                module = waiting.pop()
+                if module not in met:
+                    met.add(module)
+                    waiting.extend(imports[module])
+            self.assertNotIn(first, met)
+
+    def test_no_local_name_is_an_import_or_a_class(self):
+        for path, _, tree in self.trees():
+            outer = {alias.name for node in tree.body if isinstance(node, ast.ImportFrom) for alias in node.names}
+            outer |= {node.name for node in tree.body if isinstance(node, ast.ClassDef)}
+            for function in ast.walk(tree):
+                if isinstance(function, ast.FunctionDef):
+                    for node in ast.walk(function):
+                        if isinstance(node, ast.arg):
+                            self.assertNotIn(node.arg, outer, path)
+                        if isinstance(node, ast.Name) and isinstance(node.ctx, ast.Store):
+                            self.assertNotIn(node.id, outer, path)
+
+    def test_plain_calls(self):
+        for path, _, tree in self.trees():
+            for node in ast.walk(tree):
+                self.assertNotIsInstance(node, ast.GeneratorExp, path)
+                if isinstance(node, ast.Attribute):
+                    self.assertNotIn(node.attr, ("sort", "format", "encode", "decode"), path)
+                if isinstance(node, ast.Compare) and any(isinstance(sign, (ast.Is, ast.IsNot)) for sign in node.ops):
+                    self.assertTrue(all(isinstance(side, ast.Constant) for side in node.comparators), path)
 
     def test_words_and_names(self):
         for path, text, tree in self.trees():
