@@ -92,5 +92,10 @@ def holds(book, web, heap):
     """True where the heap is one of the web's heaps."""
     need_items(book, web)
     need_items(book, heap)
+    return holds_to_one(book, [web], heap)
+
+
+def holds_to_one(book, webs, heap):
+    """True where the heap is one of the heaps of one of the webs; all of them fit the book."""
     # In a heap there is no stretch to be joined, so its folds are just openings taken back.
-    return heap.is_heap() and comes_by_folds(book, heap, [web])
+    return heap.is_heap() and comes_by_folds(book, heap, webs)

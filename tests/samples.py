@@ -36,6 +36,10 @@ WALK = Program([("copy", "y", "x"), ("none", "y", 4), ("read", "y", "y", "r"), (
 LET_GO = Program([
     ("none", "x", 6), ("read", "y", "x", "r"), ("free", "x"), ("copy", "x", "y"), ("nil", "y"), ("go", 0),
 ])
+LIST_WEBS = [read_web("x=1 1:list()"), read_web("x=-")]
+TREE_WEB = read_web("x=1 1:tree()")
+# With any other name that a program has, there are too many.
+SIX = read_web("a=- b=- c=- d=- e=- f=-")
 EIGHT_NAMES = ("ha", "hb", "hc", "hd", "he", "hf", "hg", "hh")
 
 
@@ -45,6 +49,15 @@ def webs(*texts):
 
 def shown(told):
     return [repr(web) for web in told]
+
+
+def seen(loft):
+    """All that a loft tells of itself."""
+    programs = [
+        (name, loft.program(name).row_rows(), loft.program(name).lossy, loft.starts(name), loft.wishes(name))
+        for name in loft.names()
+    ]
+    return (programs, loft.book().shape_rows(), len(loft))
 
 
 def chain(cells, end=0, name="x"):

@@ -9,9 +9,13 @@ import unittest
 import warnings
 
 import osier.books
+import osier.breaks
 import osier.errors
 import osier.folding
 import osier.growing
+import osier.judging
+import osier.lofts
+import osier.pages
 import osier.programs
 import osier.tables
 import osier.webs
@@ -55,6 +59,28 @@ METHODS = {
         "__eq__": "(self, other)",
         "__len__": "(self)",
     },
+    osier.lofts.Loft: {
+        "__init__": "(self, book)",
+        "begin": "(self, name, rows, starts, *, lossy=False)",
+        "drop": "(self, name)",
+        "put": "(self, name, number, row)",
+        "right": "(self, name, number, row)",
+        "take": "(self, name, number)",
+        "wish": "(self, name, webs)",
+        "rule": "(self, shape, number, rule)",
+        "do_all": "(self, deeds)",
+        "undo": "(self)",
+        "redo": "(self)",
+        "names": "(self)",
+        "program": "(self, name)",
+        "starts": "(self, name)",
+        "wishes": "(self, name)",
+        "judged": "(self, name, *, cells=3)",
+        "book": "(self)",
+        "twin": "(self)",
+        "__eq__": "(self, other)",
+        "__len__": "(self)",
+    },
 }
 FUNCTIONS = {
     (osier.webs, "read_web"): "(text)",
@@ -72,6 +98,11 @@ FUNCTIONS = {
     (osier.programs, "done"): "(program, number, web)",
     (osier.tables, "found_table"): "(book, program, starts, *, wishes=None)",
     (osier.tables, "closed"): "(book, program, starts, table, *, wishes=None)",
+    (osier.breaks, "found_break"): "(book, program, starts, *, wishes=None, cells=3)",
+    (osier.breaks, "breaks_by"): "(book, program, starts, run, *, wishes=None)",
+    (osier.judging, "judge"): "(book, program, starts, *, wishes=None, cells=3)",
+    (osier.pages, "write_page"): "(loft)",
+    (osier.pages, "read_page"): "(text)",
 }
 
 
@@ -90,6 +121,11 @@ class Interface(unittest.TestCase):
         self.assertEqual(osier.webs.Web.__module__, "osier.webs")
         self.assertEqual(osier.books.Book.__module__, "osier.books")
         self.assertEqual(osier.programs.Program.__module__, "osier.programs")
+        self.assertEqual(osier.lofts.Loft.__module__, "osier.lofts")
+
+    def test_cells(self):
+        self.assertEqual(osier.judging.CELLS, 3)
+        self.assertIs(type(osier.judging.CELLS), int)
 
 
 class Language(unittest.TestCase):
@@ -200,7 +236,7 @@ class Language(unittest.TestCase):
                     self.assertIs(row, tree.body[0])
                     self.assertIsInstance(row.value.value, str)
                 elif isinstance(row, ast.Assign):
-                    ast.literal_eval(row.value)
+                    self.plain_value(row.value, names)
                     names.extend(target.id for target in row.targets)
                 elif isinstance(row, ast.ImportFrom):
                     names.extend(alias.asname or alias.name for alias in row.names)
@@ -208,6 +244,13 @@ class Language(unittest.TestCase):
                     self.assertIsInstance(row, (ast.FunctionDef, ast.ClassDef))
                     names.append(row.name)
             self.assertEqual(len(names), len(set(names)), path)
+
+    def plain_value(self, value, above):
+        """A literal, or a dict of functions that are defined above."""
+        if isinstance(value, ast.Dict) and all(isinstance(part, ast.Name) for part in value.values):
+            self.assertLessEqual({part.id for part in value.values}, set(above))
+        else:
+            ast.literal_eval(value)
 
     def test_methods_and_attributes_do_not_share_names(self):
         methods, attributes = set(), set()
